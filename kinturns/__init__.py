@@ -1,0 +1,1 @@
+"""Peoples whose marriages go by classes: tables of classes and walks of kin."""
