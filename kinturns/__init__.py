@@ -1,1 +1,1 @@
-"""Peoples whose marriages go by classes: tables of classes and walks of kin."""
+"""Peoples whose marriages go by classes, walks of kin, and books of kin."""

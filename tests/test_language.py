@@ -1,6 +1,7 @@
 """The rules of the language that can be read off the package's files, line by line or word by word."""
 
 import ast
+import builtins
 import pathlib
 import re
 import unittest
@@ -31,6 +32,34 @@ def nodes():
     return [(name, node) for name, text in sources().items() for node in ast.walk(ast.parse(text))]
 
 
+def functions_by_file():
+    return [(name, node) for name, node in nodes() if isinstance(node, ast.FunctionDef)]
+
+
+def bound_in(function):
+    """The parameters and locals of a function."""
+    own = {node.arg for node in ast.walk(function) if isinstance(node, ast.arg)}
+    own |= {node.id for node in ast.walk(function) if isinstance(node, ast.Name) and isinstance(node.ctx, ast.Store)}
+    return own
+
+
+def imports_of(text):
+    """Pairs of the file drawn from and the name drawn, of one file."""
+    rows = [node for node in ast.walk(ast.parse(text)) if isinstance(node, ast.ImportFrom)]
+    return [(row.module.split(".")[-1] + ".py", alias.name) for row in rows for alias in row.names]
+
+
+def bound_at_top(text):
+    """The names that a file itself binds at its top, each as often as it does."""
+    names = []
+    for node in ast.parse(text).body:
+        if isinstance(node, (ast.FunctionDef, ast.ClassDef)):
+            names.append(node.name)
+        if isinstance(node, ast.Assign):
+            names.append(node.targets[0].id)
+    return names
+
+
 def own_names():
     """Every name that a file of the package binds, and every method and value of its classes."""
     own = set()
@@ -39,6 +68,8 @@ def own_names():
             own.add(node.name)
         if isinstance(node, ast.arg):
             own.add(node.arg)
+        if isinstance(node, ast.ExceptHandler) and node.name:
+            own.add(node.name)
         if isinstance(node, (ast.Name, ast.Attribute)) and isinstance(node.ctx, ast.Store):
             own.add(node.id if isinstance(node, ast.Name) else node.attr)
     return own
@@ -91,6 +122,63 @@ class LanguageTest(unittest.TestCase):
                 self.assertEqual(node.level, 0, name)
                 self.assertRegex(node.module, r"\Akinturns\.[a-z]+\Z", name)
                 self.assertNotIn("*", [alias.name for alias in node.names], name)
+
+    def test_imports_are_from_the_file_that_defines_the_name_and_in_no_ring(self):
+        files = sources()
+        drawn = {name: {source for source, _ in imports_of(text)} for name, text in files.items()}
+        for name, text in files.items():
+            for source, word in imports_of(text):
+                self.assertIn(word, bound_at_top(files[source]), name)
+            reached = drawn[name]
+            for _ in files:
+                reached = reached | {later for source in reached for later in drawn[source]}
+            self.assertNotIn(name, reached)
+
+    def test_each_name_is_bound_once_at_the_top(self):
+        for name, text in sources().items():
+            names = bound_at_top(text) + [word for _, word in imports_of(text)]
+            self.assertEqual(len(names), len(set(names)), name)
+
+    def test_no_local_is_called_like_an_import_or_a_class_of_its_file_or_like_pythons_own(self):
+        files = sources()
+        for name, function in functions_by_file():
+            classes = {node.name for node in ast.parse(files[name]).body if isinstance(node, ast.ClassDef)}
+            taken = classes | {word for _, word in imports_of(files[name])} | set(dir(builtins))
+            self.assertEqual(bound_in(function) & taken, set(), (name, function.name))
+
+    def test_no_name_is_a_method_and_a_value(self):
+        methods = {node.name for _, kind in nodes() if isinstance(kind, ast.ClassDef)
+                   for node in kind.body if isinstance(node, ast.FunctionDef)}
+        held = {node.attr for _, node in nodes()
+                if isinstance(node, ast.Attribute) and isinstance(node.ctx, ast.Store)}
+        self.assertEqual(methods & held, set())
+        own = {word for kind in (str, int, list, dict, set, bytes, tuple) for word in dir(kind)}
+        self.assertEqual((methods | held) & own, {"__init__"})
+
+    def test_f_strings_comparisons_and_comprehensions(self):
+        for name, node in nodes():
+            said = (name, ast.dump(node)[:80])
+            if isinstance(node, ast.FormattedValue):
+                self.assertIsInstance(node.value, ast.Name, said)
+                self.assertIn(node.conversion, (-1, ord("r")), said)
+                self.assertIsNone(node.format_spec, said)
+            if isinstance(node, ast.Compare):
+                for sign, other in zip(node.ops, node.comparators):
+                    if isinstance(sign, (ast.Is, ast.IsNot)):
+                        self.assertIn(ast.dump(other), [ast.dump(ast.Constant(None))], said)
+            if isinstance(node, ast.ListComp):
+                self.assertEqual(len(node.generators), 1, said)
+                self.assertLessEqual(len(node.generators[0].ifs), 1, said)
+
+    def test_errors_are_the_packages_own(self):
+        own = set(bound_at_top(sources()["errors.py"]))
+        for name, node in nodes():
+            if isinstance(node, ast.ExceptHandler):
+                self.assertIn(node.type.id, own, name)
+            if isinstance(node, ast.Raise):
+                self.assertIn(node.exc.func.id, own, name)
+            if isinstance(node, ast.Try):
+                self.assertEqual(node.finalbody, [], name)
 
     def test_names(self):
         own = own_names()
